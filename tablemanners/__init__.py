@@ -1,0 +1,1 @@
+"""Tables in texts by twenty-four manners of marking off, quoting and escaping."""
