@@ -27,46 +27,59 @@ def apart(one, other):
 
 def fewest(text, manner, wide):
     """The fewest signs put in or taken out so that the text reads with so many cells in each row."""
-    # A spot is a state of reading and how many cells of the row have ended there.
-    costs = with_put_in({(ROW, 0): 0}, manner, wide)
+    return best_way(text, manner, wide)[0]
+
+
+def nearest_text(text, manner, wide):
+    """A text with so many cells in each row to which the fewest signs lead."""
+    return best_way(text, manner, wide)[1]
+
+
+def best_way(text, manner, wide):
+    """The fewest signs put in or taken out, and a text to which they lead."""
+    # A spot is a state of reading and how many cells of the row have ended there; a way to it is how many signs
+    # it has put in or taken out, and the text made so far.
+    ways = with_put_in({(ROW, 0): (0, "")}, manner, wide)
     for sign in text:
-        costs = with_put_in(behind_sign(costs, sign, manner, wide), manner, wide)
-    return costs[(ROW, 0)]
+        ways = with_put_in(behind_sign(ways, sign, manner, wide), manner, wide)
+    return ways[(ROW, 0)]
 
 
-def behind_sign(costs, sign, manner, wide):
-    """The least cost of each spot behind the sign, which is taken out or left in."""
-    after = {spot: costs[spot] + 1 for spot in costs}
-    for spot in costs:
-        reached = next_spot(spot, sign, manner, wide)
-        if reached is not None and cheaper(costs[spot], after, reached):
-            after[reached] = costs[spot]
+def behind_sign(ways, sign, manner, wide):
+    """The best way to each spot behind the sign, which is taken out or left in."""
+    after = {spot: (ways[spot][0] + 1, ways[spot][1]) for spot in ways}
+    for spot in ways:
+        cost, made = ways[spot]
+        take_if_better(after, next_spot(spot, sign, manner, wide), cost, made + sign)
     return after
 
 
-def with_put_in(costs, manner, wide):
-    """The least cost of each spot, where signs may also be put in."""
-    least = {spot: costs[spot] for spot in costs}
-    waiting = list(costs)
+def with_put_in(ways, manner, wide):
+    """The best way to each spot, where signs may also be put in."""
+    best = {spot: ways[spot] for spot in ways}
+    waiting = list(ways)
     while len(waiting) > 0:
         spot = waiting.pop()
+        cost, made = best[spot]
         for sign in worth_putting_in(manner):
             reached = next_spot(spot, sign, manner, wide)
-            if reached is not None and cheaper(least[spot] + 1, least, reached):
-                least[reached] = least[spot] + 1
+            if take_if_better(best, reached, cost + 1, made + sign):
                 waiting.append(reached)
-    return least
+    return best
+
+
+def take_if_better(ways, spot, cost, made):
+    """Whether this way is taken, as the spot can be reached and has none or a longer one."""
+    if spot is None or (spot in ways and ways[spot][0] <= cost):
+        return False
+    ways[spot] = (cost, made)
+    return True
 
 
 def worth_putting_in(manner):
     """The signs that may have to be put in."""
     # Any other sign only stands for itself: without it the text reads with the same count of cells.
     return [sign for sign in (*manner, ROW_END, "n") if sign != ""]
-
-
-def cheaper(cost, costs, spot):
-    """Whether the spot is new or costs more."""
-    return spot not in costs or cost < costs[spot]
 
 
 def next_spot(spot, sign, manner, wide):

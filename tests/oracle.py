@@ -1,5 +1,6 @@
 """What the document says, said once more in other ways: by regular expressions and by trying out."""
 
+import functools
 import itertools
 import re
 
@@ -112,23 +113,40 @@ def neighbours(text, signs):
             yield text[:place] + sign + text[place:]
 
 
-def nearest(text, manner, wide, signs):
-    """How far the nearest texts are, and all of them that these signs allow, by trying out ever more changes."""
+def layers(text, signs):
+    """The texts to which no, one, two and so on of these signs put in or any signs taken out lead."""
     seen = {text}
     layer = [text]
-    many = 0
     while True:
+        yield layer
+        layer = [near for each in layer for near in neighbours(each, signs)]
+        layer = [near for near in dict.fromkeys(layer) if near not in seen]
+        seen.update(layer)
+
+
+def nearest(text, manner, wide, signs):
+    """How far the nearest texts are, and all of them that these signs allow, by trying out ever more changes."""
+    for many, layer in enumerate(layers(text, signs)):
         good = [each for each in layer if has_width(each, manner, wide)]
         if good:
             return many, good
-        many += 1
-        following = []
+
+
+@functools.cache
+def widths(text, manner):
+    """The counts of cells, from 1 to 6, that each row of the text has."""
+    return [wide for wide in range(1, 7) if has_width(text, manner, wide)] if reads(text, manner) else []
+
+
+def distances(text, manner, signs):
+    """How far the nearest texts are, by each count of cells from 1 to 6."""
+    found = {}
+    for many, layer in enumerate(layers(text, signs)):
         for each in layer:
-            for near in neighbours(each, signs):
-                if near not in seen:
-                    seen.add(near)
-                    following.append(near)
-        layer = following
+            for wide in widths(each, manner):
+                found.setdefault(wide, many)
+        if len(found) == 6:
+            return found
 
 
 def texts(signs, most):
@@ -136,3 +154,55 @@ def texts(signs, most):
     for many in range(most + 1):
         for each in itertools.product(signs, repeat=many):
             yield "".join(each)
+
+
+def row_end(text, begin, manner):
+    """The place of the row's end of the row that begins there, or None where it has none."""
+    for end in range(begin, len(text)):
+        if re.fullmatch(row_pattern(manner), text[begin:end + 1]):
+            return end
+    return None
+
+
+def survey(text, manner, wide):
+    """What is told of each row."""
+    told = []
+    begin = 0
+    while begin < len(text):
+        end = row_end(text, begin, manner)
+        if end is None:
+            place = begin + broken(text[begin:], manner)
+            told.append(("broken", begin, place))
+            rest = text[place:]
+            begin = place + rest.index("\n") + 1 if "\n" in rest else len(text)
+        else:
+            cells = len(rows(text[begin:end + 1], manner)[0])
+            told.append(("good", begin, end) if cells == wide else ("uneven", begin, cells))
+            begin = end + 1
+    return told
+
+
+def shortest_cells(manner, signs, most):
+    """The shortest texts, of at most so many of the signs, for each cell that they can stand for."""
+    found = {}
+    pattern = re.compile(cell_pattern(manner))
+    for raw in texts(signs, most):
+        if pattern.fullmatch(raw):
+            told = value(raw, manner)
+            # Texts come by their length, so the first ones are the shortest.
+            if told not in found or len(found[told][0]) == len(raw):
+                found.setdefault(told, []).append(raw)
+    return found
+
+
+def apart(one, other):
+    """How many signs have to be put in or taken out to turn the one text into the other."""
+    @functools.cache
+    def shared(left, right):
+        if not left or not right:
+            return 0
+        if one[left - 1] == other[right - 1]:
+            return 1 + shared(left - 1, right - 1)
+        return max(shared(left - 1, right), shared(left, right - 1))
+
+    return len(one) + len(other) - 2 * shared(len(one), len(other))

@@ -2,8 +2,10 @@
 
 import ast
 import builtins
+import io
 import pathlib
 import re
+import tokenize
 import unittest
 
 PACKAGE = pathlib.Path(__file__).resolve().parent.parent / "tablemanners"
@@ -15,6 +17,9 @@ BUILTINS = set("""len range enumerate zip min max sum abs sorted reversed int st
     isinstance ord repr any all divmod Exception ValueError TypeError KeyError IndexError LookupError ZeroDivisionError
     ArithmeticError OverflowError RuntimeError NotImplementedError AttributeError StopIteration NotImplemented""".split())
 DOUBLE_UNDERSCORE = {"__init__", "__all__", "__version__", "__name__"}
+METHODS = set("""append clear copy count endswith extend find get index insert isalnum isalpha isdigit islower isspace
+    isupper items join keys ljust lower lstrip partition pop remove replace reverse rfind rjust rpartition rsplit rstrip
+    setdefault split splitlines startswith strip update upper values zfill bit_length""".split())
 NODES_BARRED = (ast.Global, ast.AsyncFunctionDef, ast.Import, ast.Div, ast.Await)
 
 
@@ -99,6 +104,47 @@ class Language(unittest.TestCase):
             for node in ast.walk(tree):
                 if isinstance(node, ast.Compare) and isinstance(node.ops[0], (ast.Is, ast.IsNot)):
                     self.assertIsInstance(node.comparators[0], ast.Constant)
+
+    def test_values_at_module_level(self):
+        for path, text, tree in parsed():
+            for node in tree.body:
+                if isinstance(node, ast.Assign):
+                    self.assertEqual([type(target) for target in node.targets], [ast.Name])
+                    self.assertIsInstance(ast.literal_eval(node.value), (int, str, bytes, tuple))
+
+    def test_calls(self):
+        own = {node.name for path, text, tree in parsed() for node in ast.walk(tree)
+               if isinstance(node, ast.FunctionDef)}
+        for path, text, tree in parsed():
+            for node in ast.walk(tree):
+                if isinstance(node, ast.Call):
+                    self.assertIsInstance(node.func, (ast.Name, ast.Attribute))
+                    self.assertEqual(node.keywords, [])
+                if isinstance(node, ast.Call) and isinstance(node.func, ast.Attribute):
+                    self.assertIn(node.func.attr, METHODS | own)
+
+    def test_errors_are_raised_by_name_and_none_is_caught(self):
+        known = ast.parse((PACKAGE / "errors.py").read_text(encoding="utf-8"))
+        errors = {node.name for node in known.body if isinstance(node, ast.ClassDef)}
+        for path, text, tree in parsed():
+            for node in ast.walk(tree):
+                self.assertNotIsInstance(node, (ast.Try, ast.With, ast.Lambda, ast.Set, ast.SetComp, ast.GeneratorExp))
+                if isinstance(node, ast.Raise):
+                    self.assertIn(node.exc.func.id, errors)
+                    self.assertIsNone(node.cause)
+
+    def test_escapes_in_strings(self):
+        for path, text, tree in parsed():
+            for token in tokenize.generate_tokens(io.StringIO(text).readline):
+                if token.type == tokenize.STRING:
+                    for found in re.findall(r"\\(.)", token.string, re.DOTALL):
+                        self.assertIn(found, "nt\\\"'")
+
+    def test_every_function_says_what_it_is_for(self):
+        for path, text, tree in parsed():
+            for node in ast.walk(tree):
+                if isinstance(node, (ast.FunctionDef, ast.ClassDef)) and node.name != "__init__":
+                    self.assertTrue(ast.get_docstring(node), node.name)
 
 
 if __name__ == "__main__":
